@@ -1,0 +1,1 @@
+"""Pursebench: seats for candidates that ballots like, and no group with a claim left out."""
