@@ -5,6 +5,14 @@ def weight_of(heap):
     return sum([weight for weight, marks in heap])
 
 
+def weight_at(heap, places):
+    return sum([heap[place][0] for place in places])
+
+
+def weighed(heap, amounts, places):
+    return sum([heap[place][0] * amounts[place] for place in places])
+
+
 def liked(heap):
     found = []
     for weight, marks in heap:

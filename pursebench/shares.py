@@ -43,3 +43,23 @@ def times(one, other):
 def below(one, other):
     # Bottoms are above 0, so multiplying by both keeps the order.
     return one[0] * other[1] < other[0] * one[1]
+
+
+def common_bottom(fractions):
+    bottom = 1
+    for top, own in fractions:
+        bottom = bottom * (own // divisor(bottom, own))
+    return bottom
+
+
+def tops_over(bottom, fractions):
+    return [top * (bottom // own) for top, own in fractions]
+
+
+# Of pairs (candidate, fraction) the first with the least fraction, so that where candidates rise the least number wins.
+def least(offers):
+    found = None
+    for offer in offers:
+        if found is None or below(offer[1], found[1]):
+            found = offer
+    return found

@@ -59,6 +59,33 @@ def bound_names(tree):
     return found
 
 
+def imports_of(tree):
+    """Pairs of the module's own file name and the name that is drawn from it."""
+    return [(node.module.split(".")[-1], alias.name)
+            for node in tree.body if isinstance(node, ast.ImportFrom) for alias in node.names]
+
+
+def top_names(tree):
+    found = [node.name for node in tree.body if isinstance(node, (ast.FunctionDef, ast.ClassDef))]
+    for node in tree.body:
+        if isinstance(node, ast.Assign):
+            found.extend(part.id for part in ast.walk(node.targets[0]) if isinstance(part, ast.Name))
+    return found
+
+
+def inner_names(tree):
+    """The parameters and locals of a file's functions."""
+    found = set()
+    for node in ast.walk(tree):
+        if isinstance(node, ast.FunctionDef):
+            for part in ast.walk(node):
+                if isinstance(part, ast.arg):
+                    found.add(part.arg)
+                elif isinstance(part, ast.Name) and isinstance(part.ctx, ast.Store):
+                    found.add(part.id)
+    return found
+
+
 class Files(unittest.TestCase):
     def test_files_are_plain_modules(self):
         self.assertIn("__init__.py", [path.name for path in files()])
@@ -113,6 +140,32 @@ class Trees(unittest.TestCase):
                     self.assertEqual(node.level, 0, self.where(name, node))
                     self.assertRegex(node.module, r"^pursebench\.[a-z_]+$", self.where(name, node))
                     self.assertNotIn("*", [alias.name for alias in node.names], self.where(name, node))
+
+    def test_a_name_is_drawn_from_the_file_that_defines_it(self):
+        defined = {name[:-len(".py")]: top_names(tree) for name, tree in trees()}
+        for name, tree in trees():
+            for module, drawn in imports_of(tree):
+                self.assertIn(drawn, defined[module], name)
+
+    def test_no_two_files_draw_from_one_another(self):
+        draws = {name[:-len(".py")]: {module for module, drawn in imports_of(tree)} for name, tree in trees()}
+        while draws:
+            free = [name for name in draws if not draws[name] & set(draws)]
+            self.assertNotEqual(free, [], "files in a ring: " + " ".join(sorted(draws)))
+            for name in free:
+                draws.pop(name)
+
+    def test_each_name_is_bound_once(self):
+        for name, tree in trees():
+            tops = top_names(tree) + [drawn for module, drawn in imports_of(tree)]
+            self.assertEqual(len(tops), len(set(tops)), name)
+            self.assertEqual(inner_names(tree) & set(tops), set(), name)
+
+    def test_a_row_by_itself_is_a_call(self):
+        for name, tree in trees():
+            for node in ast.walk(tree):
+                if isinstance(node, ast.Expr) and node != tree.body[0]:
+                    self.assertIsInstance(node.value, ast.Call, self.where(name, node))
 
     def test_functions_and_classes(self):
         for name, tree in trees():

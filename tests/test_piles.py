@@ -1,21 +1,11 @@
 """Promises [2], [5] and [6]: what is told of a heap, and how it is tidied."""
 
 import copy
-import itertools
 import random
 import unittest
 
 from pursebench.piles import agreed, liked, likers, tidy, weight_of
-
-ALL_SIX = [0, 1, 2, 3, 4, 5]
-MOST = 10 ** 20
-
-
-def every_marks():
-    found = []
-    for many in range(7):
-        found.extend([list(some) for some in itertools.combinations(range(6), many)])
-    return found
+from samples import ALL_SIX, MOST, every_marks
 
 
 def some_heaps():
