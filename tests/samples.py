@@ -40,6 +40,10 @@ def great_heaps(seed, many):
     return [random_heap(chance, chance.randrange(1, 13), chance.choice([100, MOST]), 6) for number in range(many)]
 
 
+def liked_by_some(heap):
+    return [candidate for candidate in ALL_SIX if any(candidate in marks for weight, marks in heap)]
+
+
 def cut(heap, place):
     """The heap with one pile cut in two, as far as its weight allows."""
     weight, marks = heap[place]

@@ -7,8 +7,8 @@ from fractions import Fraction
 
 from pursebench.groups import passed_over
 from pursebench.growth import grown, growth, wait
-from samples import (ALL_SIX, MOST, fraction, great_heaps, long_purses, nobody_passed_over, pair_of, pairs_of,
-                     purses_for, small_heaps, twins)
+from samples import (ALL_SIX, MOST, fraction, great_heaps, liked_by_some, long_purses, nobody_passed_over, pair_of,
+                     pairs_of, purses_for, small_heaps, twins)
 
 
 def plain_wait(heap, purses, candidate):
@@ -16,10 +16,6 @@ def plain_wait(heap, purses, candidate):
     fans = [place for place, pile in enumerate(heap) if candidate in pile[1]]
     have = sum(heap[place][0] * fraction(purses[place]) for place in fans)
     return max(Fraction(0), (whole - have) / sum(heap[place][0] for place in fans))
-
-
-def all_liked(heap):
-    return [candidate for candidate in ALL_SIX if any(candidate in marks for weight, marks in heap)]
 
 
 class Kinds(unittest.TestCase):
@@ -77,7 +73,7 @@ class Wait(Kinds):
         noughts = 0
         for heap in small_heaps(151, 300) + great_heaps(152, 60):
             purses = purses_for(chance, heap)
-            for candidate in all_liked(heap):
+            for candidate in liked_by_some(heap):
                 wanted = pair_of(plain_wait(heap, purses, candidate))
                 noughts += wanted == (0, 1)
                 self.assert_wait(heap, purses, candidate, wanted)
@@ -102,14 +98,14 @@ class Grown(Kinds):
         for row in told:
             self.assert_row(row, heap)
             self.assertLess(len(bench), seats)
-            left = [candidate for candidate in all_liked(heap) if candidate not in bench]
+            left = [candidate for candidate in liked_by_some(heap) if candidate not in bench]
             offers = [(plain_wait(heap, purses, candidate), candidate) for candidate in left]
             self.assertEqual((fraction(row[1]), row[0]), min(offers))
             purses = pairs_of([0 if row[0] in pile[1] else fraction(purse) + fraction(row[1])
                                for pile, purse in zip(heap, purses)])
             self.assertEqual(row[2], purses)
             bench.append(row[0])
-        self.assertTrue(len(bench) >= seats or set(all_liked(heap)) <= set(bench))
+        self.assertTrue(len(bench) >= seats or set(liked_by_some(heap)) <= set(bench))
         return told
 
     def test_ordinary(self):
@@ -174,7 +170,7 @@ class Grown(Kinds):
     def test_fewer_seats_are_the_beginning(self):
         for heap in small_heaps(163, 150) + great_heaps(164, 40):
             told = growth(heap, 6)
-            self.assertEqual(len(told), len(all_liked(heap)))
+            self.assertEqual(len(told), len(liked_by_some(heap)))
             for seats in range(1, 6):
                 self.assertEqual(growth(heap, seats), told[:seats])
 

@@ -1,4 +1,4 @@
-"""The package keeps to the small part of Python that its rules L1 to L28 tell, as far as a walk of its trees can see."""
+"""The package keeps to the small part of Python that rules L1 to L28 tell, as far as a walk of its trees can see."""
 
 import ast
 import builtins
@@ -28,6 +28,20 @@ WORDS = set("""
     NamedTuple TypedDict TYPE_CHECKING abstractmethod
 """.split())
 PARTS = ["dataclass", "overload", "contextmanager"]
+NOWHERE = set("""
+    register mro elements open input version_info with_traceback add_note attrgetter breakpoint builtins compile
+    copyright credits delattr dir eval exec exit gc getattr globals hasattr help id importlib license locals
+    methodcaller os quit setattr super vars sys
+""".split())
+# Names that Python's own values have, but that an object's value may have too.
+FREE_VALUES = set("count index title find get join lower upper split strip copy add".split())
+NO_VALUES = set("args".split())
+WALKS = {"zip", "enumerate", "reversed", "range"}
+WALKING_METHODS = {"items", "keys", "values"}
+WALKERS = {"list", "tuple", "dict", "sorted", "sum", "any", "all", "enumerate", "zip", "min", "max"}
+KEYWORDS = {"sorted": {"key", "reverse"}, "min": {"key", "default"}, "max": {"key", "default"}, "sum": {"start"},
+            "enumerate": {"start"}, "zip": {"strict"}}
+CHANGES = {"append", "clear", "extend", "insert", "pop", "remove", "reverse", "setdefault", "update"}
 
 
 def files():
@@ -45,6 +59,54 @@ def own_methods():
             if isinstance(node, ast.ClassDef):
                 found.update(part.name for part in node.body if isinstance(part, ast.FunctionDef))
     return found
+
+
+def own_values():
+    """The names under which the package's objects keep something."""
+    found = set()
+    for name, tree in trees():
+        for node in ast.walk(tree):
+            if isinstance(node, ast.Attribute) and isinstance(node.ctx, ast.Store):
+                found.add(node.attr)
+    return found
+
+
+def pythons_own(name):
+    return any(hasattr(kind, name) for kind in [str, int, list, tuple, dict, set, bytes])
+
+
+def parents_of(tree):
+    return {child: node for node in ast.walk(tree) for child in ast.iter_child_nodes(node)}
+
+
+def called_name(node):
+    """The name of a function that is called by its name, else None."""
+    return node.func.id if isinstance(node, ast.Call) and isinstance(node.func, ast.Name) else None
+
+
+def called_method(node):
+    return node.func.attr if isinstance(node, ast.Call) and isinstance(node.func, ast.Attribute) else None
+
+
+def walked_on_the_spot(node, parent):
+    if isinstance(parent, (ast.For, ast.comprehension)):
+        return parent.iter is node
+    return called_name(parent) in WALKERS and parent.args[0] is node
+
+
+def is_plain(node):
+    """A value that may stand at a file's top; a list or dict holds no list or dict."""
+    if isinstance(node, ast.Constant):
+        return True
+    if isinstance(node, ast.UnaryOp) and isinstance(node.op, ast.USub):
+        return isinstance(node.operand, ast.Constant)
+    if isinstance(node, ast.Dict):
+        parts = node.keys + node.values
+    elif isinstance(node, (ast.List, ast.Tuple)):
+        parts = node.elts
+    else:
+        return False
+    return all(is_plain(part) and not isinstance(part, (ast.List, ast.Dict)) for part in parts)
 
 
 def bound_names(tree):
@@ -131,6 +193,26 @@ class Trees(unittest.TestCase):
                     self.assertLessEqual(len(node.generators[0].ifs), 1, where)
                 if isinstance(node, ast.Compare) and isinstance(node.ops[0], (ast.Is, ast.IsNot)):
                     self.assertIsInstance(node.comparators[0], ast.Constant, where)
+                    self.assertIn(repr(node.comparators[0].value), ["None", "True", "False"], where)
+                if isinstance(node, ast.BinOp) and isinstance(node.op, ast.Pow):
+                    self.assertIsInstance(node.right, ast.Constant, where)
+                    self.assertIn(node.right.value, range(65), where)
+                if isinstance(node, ast.Constant) and isinstance(node.value, str):
+                    self.assertNotIn("%", node.value, where)
+                if isinstance(node, ast.ExceptHandler):
+                    self.assertIsNotNone(node.type, where)
+                    for part in ast.walk(node.type):
+                        self.assertNotIn(getattr(part, "id", ""), ["Exception", "TypeError"], where)
+
+    def test_the_top_of_a_file(self):
+        for name, tree in trees():
+            self.assertIsNotNone(ast.get_docstring(tree), name)
+            for node in tree.body[1:]:
+                where = self.where(name, node)
+                self.assertIsInstance(node, (ast.ImportFrom, ast.FunctionDef, ast.ClassDef, ast.Assign), where)
+                if isinstance(node, ast.Assign):
+                    self.assertIsInstance(node.targets[0], ast.Name, where)
+                    self.assertTrue(is_plain(node.value), where)
 
     def test_imports_are_the_packages_own(self):
         for name, tree in trees():
@@ -200,6 +282,78 @@ class Trees(unittest.TestCase):
             for node in ast.walk(tree):
                 if isinstance(node, ast.Call) and isinstance(node.func, ast.Attribute):
                     self.assertIn(node.func.attr, free, self.where(name, node))
+
+    def test_names_that_are_not_used(self):
+        for name, tree in trees():
+            for node in ast.walk(tree):
+                if isinstance(node, ast.Name):
+                    self.assertNotIn(node.id, NOWHERE, self.where(name, node))
+                if isinstance(node, ast.Attribute):
+                    self.assertNotIn(node.attr, NOWHERE | {"format", "format_map"}, self.where(name, node))
+
+    def test_values_of_objects(self):
+        values = own_values()
+        self.assertEqual(values & own_methods(), set())
+        for value in values:
+            self.assertRegex(value, r"^[A-Za-z][A-Za-z0-9_]*$")
+            self.assertTrue(value in FREE_VALUES or not pythons_own(value), value)
+            self.assertNotIn(value, NO_VALUES)
+        for method in own_methods() - DOUBLE_UNDERSCORES:
+            self.assertTrue(method in METHODS | {"add", "discard"} or not pythons_own(method), method)
+
+    def test_an_attribute_is_an_own_value_or_a_method_that_is_called(self):
+        for name, tree in trees():
+            parents = parents_of(tree)
+            for node in ast.walk(tree):
+                if isinstance(node, ast.Attribute) and node.attr not in own_values():
+                    self.assertIsInstance(parents[node], ast.Call, self.where(name, node))
+                    self.assertIs(parents[node].func, node, self.where(name, node))
+
+    def test_keywords(self):
+        for name, tree in trees():
+            for node in ast.walk(tree):
+                if isinstance(node, ast.Call):
+                    told = {keyword.arg for keyword in node.keywords}
+                    self.assertLessEqual(told, KEYWORDS.get(called_name(node), set()), self.where(name, node))
+
+    def test_pythons_own_functions_are_called_where_they_stand(self):
+        for name, tree in trees():
+            parents = parents_of(tree)
+            for node in ast.walk(tree):
+                if isinstance(node, ast.Name) and node.id in OWN_OF_PYTHON:
+                    parent = parents[node]
+                    is_called = isinstance(parent, ast.Call) and parent.func is node
+                    is_kind = called_name(parent) == "isinstance" or isinstance(parent, (ast.Tuple, ast.ClassDef))
+                    self.assertTrue(is_called or is_kind, self.where(name, node))
+
+    def test_walked_at_once(self):
+        for name, tree in trees():
+            parents = parents_of(tree)
+            for node in ast.walk(tree):
+                if called_name(node) in WALKS or called_method(node) in WALKING_METHODS:
+                    self.assertTrue(walked_on_the_spot(node, parents[node]), self.where(name, node))
+
+    def test_what_a_loop_walks_is_not_changed_in_it(self):
+        for name, tree in trees():
+            for loop in [node for node in ast.walk(tree) if isinstance(node, ast.For)]:
+                parts = [part for part in ast.walk(loop.iter) if isinstance(part, (ast.Name, ast.Attribute))]
+                walked = {ast.unparse(part) for part in parts}
+                for node in [part for step in loop.body for part in ast.walk(step)]:
+                    if called_method(node) in CHANGES:
+                        self.assertNotIn(ast.unparse(node.func.value), walked, self.where(name, node))
+                    if isinstance(node, ast.Subscript) and isinstance(node.ctx, ast.Store):
+                        self.assertNotIn(ast.unparse(node.value), walked, self.where(name, node))
+
+    def test_sets_are_not_kept(self):
+        for name, tree in trees():
+            parents = parents_of(tree)
+            for node in ast.walk(tree):
+                if called_name(node) in ["set", "frozenset"]:
+                    parent = parents[node]
+                    while isinstance(parent, ast.BinOp):
+                        parent = parents[parent]
+                    self.assertTrue(called_name(parent) in ["sorted", "len"] or isinstance(parent, ast.Compare),
+                                    self.where(name, node))
 
 
 if __name__ == "__main__":
